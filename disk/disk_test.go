@@ -1048,6 +1048,7 @@ func TestNotKept(t *testing.T) {
 	// A goroutine of their own, so that no stack of this one holds them any more.
 	told := make(chan weak.Pointer[[1 << 16]byte])
 	go func() {
+		defer close(told)
 		p := new([1 << 16]byte)
 		fine(t, d.Create("a"), d.Append("a", p[:]), d.Hand("b", p[:]))
 		told <- weak.Make(p)
@@ -1068,6 +1069,7 @@ func TestNamesNotKept(t *testing.T) {
 	d := made(t, 0, 2)
 	told := make(chan uint64)
 	go func() {
+		defer close(told)
 		text := strings.Repeat("n", 1<<26)
 		fine(t, d.Hand(text[:4], nil), d.Create(text[:1]), d.Rename(text[:1], text[1:3]), d.Rename(text[:2], text[:3]), d.Remove(text[:3]))
 		told <- uint64(len(text))
