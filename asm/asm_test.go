@@ -184,7 +184,7 @@ func slowParse(s string) (api.Proc, int, api.Errno) {
 		case !ok || ended:
 			return api.Proc{}, i + 1, api.ErrText
 		case head == 0:
-			if len(words) != 3 || words[0] != "proc" || !isNumber.MatchString(words[2]) {
+			if len(words) != 3 || words[0] != "proc" || words[1][0] == '"' || !isNumber.MatchString(words[2]) {
 				return api.Proc{}, i + 1, api.ErrText
 			}
 			head, p.Name = i+1, words[1]
@@ -636,13 +636,20 @@ func TestHead(t *testing.T) {
 	refuses(t, rows("proc p 0", "proc", "end"), 2)
 	refuses(t, rows("proc p 0", "end", "proc p 0", "end"), 3)
 	refuses(t, rows("", "end"), 2)
-	// Any word is a name, till Check says otherwise; it may be the word of something else.
+	// Any plain word is a name, till Check says otherwise; it may be the word of something else.
 	for _, name := range []string{"p", "P", "proc", "end", "set", "r0", "none", "a.b-c_9", "stop", long(32)} {
 		takes(t, rows("proc "+name+" 3", "end"), api.Proc{Name: name, Args: 3})
 	}
-	for _, name := range []string{"9p", "9", "-", "_p", ".p", "p!", "pé", "\xff", "p\x00", "p\r", "=", long(33), long(100000), `p"`, `p"q"`, `"p"`, `""`, `"p q"`, `"p#q"`, "p'"} {
+	for _, name := range []string{"9p", "9", "-", "_p", ".p", "p!", "pé", "\xff", "p\x00", "p\r", "=", long(33), long(100000), `p"`, `p"q"`, "p'"} {
 		parsed(t, rows("proc "+name+" 3", "end"), api.Proc{}, 1, api.ErrName)
 		parsed(t, rows("", "# x", "  proc\t"+name+" 99 # y", "", "stop", "end"), api.Proc{}, 3, api.ErrName)
+	}
+	// A text in quotes is a VALUE, and may not stand for a name, whatever it says.
+	for _, name := range []string{`"p"`, `""`, `"p q"`, `"p#q"`, `"9p"`, `"put2"`, `"\x70"`, `"\""`, `"` + long(33) + `"`} {
+		refuses(t, rows("proc "+name+" 3", "end"), 1)
+		refuses(t, "proc "+name+" 0\nend", 1)
+		refuses(t, rows("proc "+name+" 999999999", "set", "end"), 1)
+		refuses(t, rows("", "# x", "  proc\t"+name+" 99 # y", "", "set", "end"), 3)
 	}
 }
 

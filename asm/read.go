@@ -48,7 +48,7 @@ func words(line string) iter.Seq[string] {
 
 // wordSize is how many bytes the word at the beginning of s has.
 func wordSize(s string) int {
-	if s[0] == '"' {
+	if isQuoted(s) {
 		_, n := takeQuoted(s)
 		insist(n == len(s) || endsWord(s[n]))
 		return n
@@ -120,11 +120,11 @@ func exactly(line string, want int) []string {
 	return out
 }
 
-// readHead reads the first line that says something. Whether the name is one, Check tells.
+// readHead reads the first line that says something.
 func (r *reading) readHead(line string) {
 	all := exactly(line, 3)
 	insist(all[0] == wordProc)
-	r.proc.Name = strings.Clone(all[1])
+	r.proc.Name = takeName(all[1])
 	r.proc.Args = takeNumber(all[2])
 	r.head = r.line
 }

@@ -36,6 +36,13 @@ func takeComparison(word string) int {
 	panic(refusal{})
 }
 
+// takeName takes a plain word; whether it is a name, Check tells. A text in
+// quotes is a VALUE, whatever it says: no other place takes one.
+func takeName(word string) string {
+	insist(!isQuoted(word))
+	return strings.Clone(word)
+}
+
 func showRegister(n int) string { return "r" + strconv.Itoa(n) }
 
 func takeRegister(word string) int {
@@ -75,7 +82,7 @@ func takeValue(word string) api.Value {
 	switch {
 	case word == wordNone:
 		return api.Value{}
-	case word[0] == '"':
+	case isQuoted(word):
 		text, _ := takeQuoted(word)
 		return api.Value{Kind: api.KindText, Text: text}
 	}
@@ -105,6 +112,9 @@ func quote(s string) string {
 	}
 	return string(append(out, '"'))
 }
+
+// isQuoted tells whether the word at the beginning of s is a text in quotes.
+func isQuoted(s string) bool { return s[0] == '"' }
 
 // takeQuoted is what the text in quotes at the beginning of s says, and how
 // many bytes it has there, with its quotes.
