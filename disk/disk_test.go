@@ -8,6 +8,7 @@ import (
 	"slices"
 	"strings"
 	"testing"
+	"unsafe"
 	"weak"
 
 	"treadle/api"
@@ -1085,6 +1086,31 @@ func TestNamesNotKept(t *testing.T) {
 		}
 	}
 	t.Errorf("W6: %d bytes are kept", memory.HeapAlloc)
+}
+
+// P3.15, W6: the names that are answered are new memory too: of no two answers, and not what the disk keeps.
+func TestNamesApart(t *testing.T) {
+	d := made(t, 100, 9)
+	fine(t, d.Create("first"), d.Create("second"), d.SyncNames(), d.Rename("second", "third"), d.Hand("fourth", nil), d.Create("fifth"))
+	want := "fifth first fourth third"
+	for range 2 {
+		names, e := d.List()
+		fine(t, e)
+		for _, l := range [][]api.FileBytes{d.Files(), d.Safe()} {
+			for _, f := range l {
+				names = append(names, f.Name)
+			}
+		}
+		is(t, "P3.15", strings.Join(names, " "), want+" "+want+" first fourth third")
+		for _, name := range names {
+			row := unsafe.Slice(unsafe.StringData(name), len(name))
+			clear(row)
+		}
+	}
+	for _, f := range d.Crash(api.Picks{Names: 1}) {
+		clear(unsafe.Slice(unsafe.StringData(f.Name), len(f.Name)))
+	}
+	is(t, "P3.15, Crash", list(d), want+", 0")
 }
 
 // P3.15, W2: two disks in turns don't touch each other.

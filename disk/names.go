@@ -66,8 +66,14 @@ func (d *Disk) reached(names map[string]int) map[int]*file {
 	return to
 }
 
-// sorted is the names, the least first.
-func sorted(names map[string]int) []string { return slices.Sorted(maps.Keys(names)) }
+// sorted is the names, the least first, in memory of their own: they are answered.
+func sorted(names map[string]int) []string {
+	all := slices.Sorted(maps.Keys(names))
+	for i, name := range all {
+		all[i] = strings.Clone(name)
+	}
+	return all
+}
 
 // told is the files that have these names, with the bytes that are asked for by their numbers.
 func told(names map[string]int, data func(int) []byte) []api.FileBytes {
