@@ -4,6 +4,7 @@ import (
 	"strconv"
 
 	"treadle/api"
+	"treadle/spelling"
 )
 
 // The words of the lines that are no instructions.
@@ -86,7 +87,7 @@ func comparison(part func(in *api.Instr) *int) field {
 func value() field {
 	return field{
 		take: func(in *api.Instr, word string) { in.Value = takeValue(word) },
-		show: func(in *api.Instr) string { return showValue(in.Value) },
+		show: func(in *api.Instr) string { return spelling.OfValue(in.Value) },
 	}
 }
 

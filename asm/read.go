@@ -5,6 +5,7 @@ import (
 	"strings"
 
 	"treadle/api"
+	"treadle/spelling"
 )
 
 // refusal is what a reading is given up with: a type of its own, so that no
@@ -35,33 +36,17 @@ func lines(text string) iter.Seq2[int, string] {
 // words goes through the words of a line, up to a remark; a text in quotes keeps its quotes.
 func words(line string) iter.Seq[string] {
 	return func(yield func(string) bool) {
-		rest := strings.TrimLeft(line, " \t")
-		for rest != "" && rest[0] != '#' {
-			n := wordSize(rest)
-			if !yield(rest[:n]) {
+		rest := line
+		for {
+			word, behind, ok := spelling.Next(rest)
+			insist(ok)
+			if word == "" || !yield(word) {
 				return
 			}
-			rest = strings.TrimLeft(rest[n:], " \t")
+			rest = behind
 		}
 	}
 }
-
-// wordSize is how many bytes the word at the beginning of s has.
-func wordSize(s string) int {
-	if isQuoted(s) {
-		_, n := takeQuoted(s)
-		insist(n == len(s) || endsWord(s[n]))
-		return n
-	}
-	n := 0
-	for n < len(s) && !endsWord(s[n]) {
-		n++
-	}
-	return n
-}
-
-// endsWord tells whether a byte behind a word is none of it.
-func endsWord(c byte) bool { return c == ' ' || c == '\t' || c == '#' }
 
 // reading is what was read of a text so far.
 type reading struct {
